@@ -1,0 +1,1 @@
+"""Askhouse: machines learned by asking."""
