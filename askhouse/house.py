@@ -6,9 +6,13 @@ MOST_DOORS = 6
 MOST_ROOMS = 400
 
 
-def check_house(doors, ways, lamps):
+def check_doors(doors):
     if not 1 <= doors <= MOST_DOORS:
-        raise BadHouse(f"a house has 1 to 6 doors in each room, not {doors}")
+        raise BadHouse(f"there are 1 to 6 doors, not {doors}")
+
+
+def check_house(doors, ways, lamps):
+    check_doors(doors)
     rooms = len(ways)
     if not 1 <= rooms <= MOST_ROOMS:
         raise BadHouse(f"a house has 1 to 400 rooms, not {rooms}")

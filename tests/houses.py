@@ -5,6 +5,15 @@ import random
 
 from askhouse.house import House
 
+# Where a table's truth stands, by what the first and the second house say.
+TABLE_PLACES = {(False, False): 0, (False, True): 1, (True, False): 2, (True, True): 3}
+# The fields of a house that is lit where the number of zeros is odd.
+ODD_ZEROS = (2, [[1, 0], [0, 1]], [False, True])
+
+
+def all_lit(doors):
+    return House(doors, [[0] * doors], [True])
+
 
 def line(rooms, doors=1):
     """Door 0 leads on, the others stay; only the last room is lit."""
@@ -15,6 +24,19 @@ def line(rooms, doors=1):
 def ring(rooms, lit_each):
     ways = [[(room + 1) % rooms] for room in range(rooms)]
     return House(1, ways, [room % lit_each == 0 for room in range(rooms)])
+
+
+def looped(tail, cycle, doors=1):
+    """All doors lead on: through the tail once, then round; the last room is lit."""
+    rooms = tail + cycle
+    ways = [[room + 1] * doors for room in range(rooms - 1)] + [[tail] * doors]
+    return House(doors, ways, [room == rooms - 1 for room in range(rooms)])
+
+
+def changed_lamp(house, room):
+    lamps = list(house.lamps)
+    lamps[room] = not lamps[room]
+    return House(house.doors, house.ways, lamps)
 
 
 def fields(house):
@@ -46,11 +68,31 @@ def drawn_houses(number, seed):
         yield House(doors, near, lamps)
 
 
+def small_pairs():
+    for doors, most in ((1, 3), (2, 2), (3, 1), (6, 1)):
+        houses = [house for rooms in range(1, most + 1) for house in every_house(doors, rooms)]
+        yield from itertools.product(houses, repeat=2)
+
+
+def drawn_pairs(number, seed):
+    """Pairs with as many doors, half of them unlike in one lamp alone."""
+    firsts = {}
+    for house in drawn_houses(number, seed):
+        other = firsts.setdefault(house.doors, house)
+        yield (house, other)
+        yield (house, changed_lamp(house, house.rooms() - 1))
+        firsts[house.doors] = house
+
+
+def words_of(doors, size):
+    """All words of a length, in their order."""
+    return [list(word) for word in itertools.product(range(doors), repeat=size)]
+
+
 def words_to(doors, longest):
     """All words up to a length, in their order."""
     for size in range(longest + 1):
-        for word in itertools.product(range(doors), repeat=size):
-            yield list(word)
+        yield from words_of(doors, size)
 
 
 def walk(house, room, word):
@@ -91,6 +133,39 @@ def plain_apart_by_pairs(house, one, other):
                 met.add(pair)
                 queue.append(pair + (word + [door],))
     return None
+
+
+def joined(one, other):
+    """One house with the rooms of both, the other's behind."""
+    shift = one.rooms()
+    ways = one.ways + [[way + shift for way in row] for row in other.ways]
+    return House(one.doors, ways, one.lamps + other.lamps)
+
+
+def plain_difference(one, other):
+    """Tries every word; none needs as many doors as there are rooms in both."""
+    for word in words_to(one.doors, one.rooms() + other.rooms() - 1):
+        if one.says(word) != other.says(word):
+            return word
+    return None
+
+
+def plain_pairs(one, other):
+    """The pairs to which words lead, found by trying every word."""
+    found = {}
+    for word in words_to(one.doors, one.rooms() * other.rooms() - 1):
+        found.setdefault((walk(one, 0, word), walk(other, 0, word)), word)
+    return list(found)
+
+
+def plain_mixed(one, other, pairs, table):
+    ways = [[pairs.index((one.ways[left][door], other.ways[right][door])) for door in range(one.doors)]
+            for left, right in pairs]
+    return (one.doors, ways, [table[TABLE_PLACES[one.lamps[left], other.lamps[right]]] for left, right in pairs])
+
+
+def plain_lit(house, size):
+    return [word for word in words_of(house.doors, size) if house.lamps[walk(house, 0, word)]]
 
 
 def plain_fewest(house):

@@ -5,7 +5,7 @@ import unittest
 from askhouse.errors import NoRoom
 from askhouse.fewest import apart, fewest, least_words, reached
 from askhouse.house import House
-from tests.houses import (drawn_houses, fields, line, parts, plain_apart_by_pairs, plain_apart_by_words,
+from tests.houses import (drawn_houses, fields, joined, line, parts, plain_apart_by_pairs, plain_apart_by_words,
                           plain_fewest, plain_least_words, ring, small_houses, words_to)
 
 # Rooms 3 and 5 are not reached; 2 and 4 are alike; room 4 is met ahead of 1.
@@ -187,10 +187,7 @@ class Fewest(unittest.TestCase):
     def test_drawn_houses_say_the_same_of_every_word(self):
         for house in drawn_houses(200, 3):
             small = fewest(house)
-            shift = house.rooms()
-            both = House(house.doors, house.ways + [[way + shift for way in row] for row in small.ways],
-                         house.lamps + small.lamps)
-            self.assertIsNone(plain_apart_by_pairs(both, 0, shift))
+            self.assertIsNone(plain_apart_by_pairs(joined(house, small), 0, house.rooms()))
 
 
 class NothingHangs(unittest.TestCase):

@@ -128,6 +128,15 @@ class Language(unittest.TestCase):
             if isinstance(node, ast.Call) and isinstance(node.func, ast.Attribute):
                 self.assertIn(node.func.attr, METHODS + own, self.place)
 
+    def test_no_name_is_a_method_and_a_value(self):
+        methods, values = set(), set()
+        for node in self.every_node():
+            if isinstance(node, ast.ClassDef):
+                methods.update(part.name for part in node.body if isinstance(part, ast.FunctionDef))
+            if isinstance(node, ast.Attribute) and isinstance(node.ctx, ast.Store):
+                values.add(node.attr)
+        self.assertEqual(methods & values, set())
+
     def test_is_stands_beside_plain_values_alone(self):
         for node in self.every_node():
             if isinstance(node, ast.Compare) and isinstance(node.ops[0], (ast.Is, ast.IsNot)):

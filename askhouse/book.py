@@ -1,0 +1,26 @@
+"""A book that keeps what was noted of words."""
+
+from askhouse.errors import SaidOtherwise
+from askhouse.house import check_doors, check_word
+
+
+class Book:
+    def __init__(self, doors):
+        check_doors(doors)
+        self.doors = doors
+        self.noted = {}
+
+    def note(self, word, lit):
+        before = self.said(word)
+        if before is None:
+            # A tuple of its own, so that the caller's list may be changed later.
+            self.noted[tuple(word)] = lit
+        elif before != lit:
+            raise SaidOtherwise(f"{before} was noted of this word")
+
+    def said(self, word):
+        check_word(self.doors, word)
+        return self.noted.get(tuple(word))
+
+    def all_said(self):
+        return [(list(word), lit) for word, lit in self.noted.items()]
