@@ -10,13 +10,16 @@ class Book:
         self.doors = doors
         self.noted = {}
 
-    def note(self, word, lit):
+    def check_note(self, word, lit):
         before = self.said(word)
-        if before is None:
-            # A tuple of its own, so that the caller's list may be changed later.
-            self.noted[tuple(word)] = lit
-        elif before != lit:
+        if before is not None and before != lit:
             raise SaidOtherwise(f"{before} was noted of this word")
+
+    def note(self, word, lit):
+        self.check_note(word, lit)
+        # A tuple of its own, so that the caller's list may be changed later. A
+        # word that is there already keeps its place.
+        self.noted[tuple(word)] = lit
 
     def said(self, word):
         check_word(self.doors, word)

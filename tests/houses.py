@@ -95,6 +95,16 @@ def words_to(doors, longest):
         yield from words_of(doors, size)
 
 
+def wrong_words(doors):
+    """Words with one part that is no door, at every place."""
+    for door in (-1, -doors, doors, doors + 1, 400, -400):
+        for size in (1, 2, 4):
+            for at in range(size):
+                yield [0] * at + [door] + [doors - 1] * (size - at - 1)
+        yield [0] * 200 + [door] + [0] * 199
+        yield [0] * 399 + [door]
+
+
 def walk(house, room, word):
     for door in word:
         room = house.ways[room][door]
@@ -180,3 +190,69 @@ def plain_fewest(house):
 
     ways = [[number(way) for way in house.ways[room]] for room in firsts]
     return (house.doors, ways, [house.lamps[room] for room in firsts])
+
+
+class PlainLearner:
+    """Points 11 to 15, with all lines and tails looked through anew each time."""
+
+    def __init__(self, doors):
+        self.doors = doors
+        self.noted = {}
+        self.heads = [[]]
+        self.tails = [[]]
+
+    def edges_of(self, head):
+        return [head + [door] for door in range(self.doors)]
+
+    def row(self, word):
+        return [self.noted[tuple(word + tail)] for tail in self.tails]
+
+    def question(self):
+        for head in self.heads:
+            for line in [head] + self.edges_of(head):
+                for tail in self.tails:
+                    if tuple(line + tail) not in self.noted:
+                        return line + tail
+        return None
+
+    def unlike_edges(self):
+        rows = [self.row(head) for head in self.heads]
+        return [edge for head in self.heads for edge in self.edges_of(head) if self.row(edge) not in rows]
+
+    def add_unlike_edges(self):
+        while self.question() is None and self.unlike_edges():
+            self.heads.append(self.unlike_edges()[0])
+
+    def answer(self, lit):
+        self.noted[tuple(self.question())] = lit
+        self.add_unlike_edges()
+
+    def guess(self):
+        rows = [self.row(head) for head in self.heads]
+        ways = [[rows.index(self.row(edge)) for edge in self.edges_of(head)] for head in self.heads]
+        return House(self.doors, ways, [self.noted[tuple(head)] for head in self.heads])
+
+    def wrong(self, word, lit):
+        self.noted[tuple(word)] = lit
+        for place in range(len(word) - 1, -1, -1):
+            if word[place:] not in self.tails:
+                self.tails.append(word[place:])
+        self.add_unlike_edges()
+
+    def state(self):
+        return (self.question(), self.heads, self.tails, [(list(word), lit) for word, lit in self.noted.items()])
+
+
+def plain_lesson(house):
+    """Point 16, as fields of the last guess, told words and the number of answers."""
+    learner, told, answered = PlainLearner(house.doors), [], 0
+    while True:
+        while learner.question() is not None:
+            learner.answer(house.says(learner.question()))
+            answered += 1
+        guess = learner.guess()
+        word = plain_apart_by_pairs(joined(guess, house), 0, guess.rooms())
+        if word is None:
+            return (fields(guess), told, answered)
+        learner.wrong(word, house.says(word))
+        told.append(word)

@@ -5,7 +5,7 @@ import unittest
 
 from askhouse.book import Book
 from askhouse.errors import BadHouse, BadWord, SaidOtherwise
-from tests.houses import words_to
+from tests.houses import words_to, wrong_words
 
 
 def written():
@@ -17,16 +17,6 @@ def written():
 
 
 WRITTEN = [([2, 0], True), ([], False), ([0, 2], False)]
-
-
-def wrong_words(doors):
-    """Words with one part that is no door, at every place."""
-    for door in (-1, -doors, doors, doors + 1, 400, -400):
-        for size in (1, 2, 4):
-            for at in range(size):
-                yield [0] * at + [door] + [doors - 1] * (size - at - 1)
-        yield [0] * 200 + [door] + [0] * 199
-        yield [0] * 399 + [door]
 
 
 class Making(unittest.TestCase):
